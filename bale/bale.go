@@ -1,0 +1,47 @@
+// Package bale: texts made small, and themselves again: see DOC.md.
+package bale
+
+import (
+	"bale/api"
+	"bale/codes"
+	"bale/sum"
+)
+
+// Stream is what texts are written to and bytes taken from.
+type Stream struct{}
+
+// Sum tells a text's sum (P3).
+func Sum(text string) uint32 { return sum.Of(text) }
+
+// Codes tells the bits of a code's symbols (P3).
+func Codes(lengths []int) ([]int, api.Errno) { return codes.Bits(lengths) }
+
+// Lengths tells the best code's lengths (P4).
+func Lengths(counts []int, most int) ([]int, api.Errno) { return codes.Lengths(counts, most) }
+
+// Inflate unpacks (P5).
+func Inflate(data string, most int) (string, int, api.Errno) { return "", 0, api.OK }
+
+// Unframe unpacks what has a frame (P6).
+func Unframe(data string, most int) (string, api.Errno) { return "", api.OK }
+
+// Deflate packs (P7).
+func Deflate(text string, level int) (string, api.Errno) { return "", api.OK }
+
+// Frame packs, with a frame (P7).
+func Frame(text string, level int) (string, api.Errno) { return "", api.OK }
+
+// New makes a stream (P8).
+func New(level int) (*Stream, api.Errno) { return nil, api.OK }
+
+// Write writes a text (P8).
+func (s *Stream) Write(text string) api.Errno { return api.OK }
+
+// Flush brings out what was written (P8).
+func (s *Stream) Flush(full bool) api.Errno { return api.OK }
+
+// Close ends it (P8).
+func (s *Stream) Close() api.Errno { return api.OK }
+
+// Take tells the bytes that came (P8).
+func (s *Stream) Take() string { return "" }
