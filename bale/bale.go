@@ -4,7 +4,9 @@ package bale
 import (
 	"bale/api"
 	"bale/codes"
+	"bale/frame"
 	"bale/sum"
+	"bale/unpack"
 )
 
 // Stream is what texts are written to and bytes taken from.
@@ -20,10 +22,48 @@ func Codes(lengths []int) ([]int, api.Errno) { return codes.Bits(lengths) }
 func Lengths(counts []int, most int) ([]int, api.Errno) { return codes.Lengths(counts, most) }
 
 // Inflate unpacks (P5).
-func Inflate(data string, most int) (string, int, api.Errno) { return "", 0, api.OK }
+func Inflate(data string, most int) (string, int, api.Errno) {
+	reader := unpack.New(data, most)
+	switch why := whyGivenUp(reader.Blocks); why {
+	case api.OK:
+		return reader.Text(), reader.Used(), api.OK
+	case api.ErrEnd:
+		return reader.Text(), 0, api.ErrEnd
+	default:
+		return "", 0, why
+	}
+}
+
+// whyGivenUp reads, and tells why the reader gave up: OK if it did not.
+func whyGivenUp(read func()) (why api.Errno) {
+	defer func() {
+		switch fault := recover().(type) {
+		case nil:
+		case unpack.GaveUp:
+			why = fault.Why
+		default: // no reader's doing: to go on would be to answer something wrong
+			panic(fault)
+		}
+	}()
+	read()
+	return api.OK
+}
 
 // Unframe unpacks what has a frame (P6).
-func Unframe(data string, most int) (string, api.Errno) { return "", api.OK }
+func Unframe(data string, most int) (string, api.Errno) {
+	if err := frame.Begin(data); err != api.OK {
+		return "", err
+	}
+	blocks := data[frame.Ahead:]
+	text, used, err := Inflate(blocks, most)
+	if err != api.OK {
+		return "", err
+	}
+	if err := frame.End(blocks[used:], text); err != api.OK {
+		return "", err
+	}
+	return text, api.OK
+}
 
 // Deflate packs (P7).
 func Deflate(text string, level int) (string, api.Errno) { return "", api.OK }

@@ -43,14 +43,21 @@ func weight(lengths []int) int {
 	return sum
 }
 
-// firstBits tells for each length the bits of the first symbol that has it.
-func firstBits(lengths []int) [api.MaxBits + 1]int {
-	var symbols, first [api.MaxBits + 1]int
+// perLength tells how many symbols have each length; those that are not in the code are not told, though their length is 0.
+func perLength(lengths []int) [api.MaxBits + 1]int {
+	var symbols [api.MaxBits + 1]int
 	for _, length := range lengths {
-		if length > 0 { // else those that are not in the code would shift all others
+		if length > 0 {
 			symbols[length]++
 		}
 	}
+	return symbols
+}
+
+// firstBits tells for each length the bits of the first symbol that has it.
+func firstBits(lengths []int) [api.MaxBits + 1]int {
+	var first [api.MaxBits + 1]int
+	symbols := perLength(lengths)
 	for length := 1; length <= api.MaxBits; length++ {
 		first[length] = (first[length-1] + symbols[length-1]) << 1
 	}
