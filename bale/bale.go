@@ -5,6 +5,7 @@ import (
 	"bale/api"
 	"bale/codes"
 	"bale/frame"
+	"bale/pack"
 	"bale/sum"
 	"bale/unpack"
 )
@@ -66,10 +67,28 @@ func Unframe(data string, most int) (string, api.Errno) {
 }
 
 // Deflate packs (P7).
-func Deflate(text string, level int) (string, api.Errno) { return "", api.OK }
+func Deflate(text string, level int) (string, api.Errno) {
+	if !isLevel(level) {
+		return "", api.ErrNumber
+	}
+	packer := pack.New(level)
+	packer.Add(text)
+	packer.End()
+	return packer.Take(), api.OK
+}
+
+func isLevel(level int) bool {
+	return 0 <= level && level <= api.MaxLevel
+}
 
 // Frame packs, with a frame (P7).
-func Frame(text string, level int) (string, api.Errno) { return "", api.OK }
+func Frame(text string, level int) (string, api.Errno) {
+	blocks, err := Deflate(text, level)
+	if err != api.OK {
+		return "", err
+	}
+	return frame.Around(blocks, text), api.OK
+}
 
 // New makes a stream (P8).
 func New(level int) (*Stream, api.Errno) { return nil, api.OK }

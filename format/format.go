@@ -1,7 +1,10 @@
 // Package format says what blocks are made of: their kinds, their codes, and what the letters and steps in them tell.
 package format
 
-import "slices"
+import (
+	"math/bits"
+	"slices"
+)
 
 // The kinds of blocks.
 const (
@@ -21,6 +24,16 @@ const (
 
 // End is the letter that ends a block: those below it are bytes, those above it are bytes again.
 const End = 256
+
+// MostAsItIs is how many bytes a block as it is has at most: what a number of 16 bits can tell.
+const MostAsItIs = 1<<16 - 1
+
+// At least and at most so many bytes come again at once, and from at most so far back.
+const (
+	LeastAgain = 3
+	MostAgain  = 258
+	MostBack   = 1 << 15
+)
 
 // Before is the symbol of the code of lengths that stands for the length before it; those behind it stand for 0, those ahead of it for themselves.
 const Before = 16
@@ -58,6 +71,11 @@ type Span struct {
 	Least, Bits int
 }
 
+// Most tells the last number of a span.
+func (s Span) Most() int {
+	return s.Least + 1<<s.Bits - 1
+}
+
 // Times tells how many times a symbol of the code of lengths says its length.
 func Times(symbol int) Span {
 	switch symbol {
@@ -74,16 +92,29 @@ func Times(symbol int) Span {
 // Again tells how many bytes come again at a letter above End.
 func Again(letter int) Span {
 	if letter == longest {
-		return Span{258, 0}
+		return Span{MostAgain, 0}
 	}
 	s := span(letter-End-1, 4)
-	return Span{s.Least + 3, s.Bits}
+	return Span{s.Least + LeastAgain, s.Bits}
+}
+
+// Letter tells the letter at which so many bytes come again.
+func Letter(count int) int {
+	if count == MostAgain {
+		return longest
+	}
+	return End + 1 + spanOf(count-LeastAgain, 4)
 }
 
 // Back tells from how far back they come at a step.
 func Back(step int) Span {
 	s := span(step, 2)
 	return Span{s.Least + 1, s.Bits}
+}
+
+// Step tells the step at which they come from so far back.
+func Step(back int) int {
+	return spanOf(back-1, 2)
 }
 
 // span tells the span in this place of a row of spans, which lie close behind one another from 0 on. Twice each of them have no bits; from there on each have one bit more than those ahead, so that they reach as far as all those did together.
@@ -93,4 +124,10 @@ func span(place, each int) Span {
 	}
 	bits := place/each - 1
 	return Span{(each + place%each) << bits, bits}
+}
+
+// spanOf tells the place of the span that has this number in such a row.
+func spanOf(number, each int) int {
+	more := max(0, bits.Len(uint(number))-bits.Len(uint(each)))
+	return number>>more + each*more
 }

@@ -12,6 +12,19 @@ const Ahead = 2
 // behind is how many bytes stand behind the blocks: the sum.
 const behind = 4
 
+// begin is how the frames that are made here begin.
+const begin = "\x78\x9c"
+
+// Around puts a frame around the blocks that tell a text.
+func Around(blocks, text string) string {
+	return begin + blocks + string(bytesOf(sum.Of(text)))
+}
+
+// bytesOf tells a number with its highest byte first.
+func bytesOf(number uint32) []byte {
+	return []byte{byte(number >> 24), byte(number >> 16), byte(number >> 8), byte(number)}
+}
+
 // Begin tells what is wrong with how a frame begins.
 func Begin(data string) api.Errno {
 	if len(data) < Ahead {
