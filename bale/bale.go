@@ -2,6 +2,8 @@
 package bale
 
 import (
+	"sync"
+
 	"bale/api"
 	"bale/codes"
 	"bale/frame"
@@ -10,8 +12,12 @@ import (
 	"bale/unpack"
 )
 
-// Stream is what texts are written to and bytes taken from.
-type Stream struct{}
+// Stream is what texts are written to and bytes taken from. Several may use it at once: each call holds its lock.
+type Stream struct {
+	lock   sync.Mutex
+	packer *pack.Packer
+	closed bool
+}
 
 // Sum tells a text's sum (P3).
 func Sum(text string) uint32 { return sum.Of(text) }
@@ -91,16 +97,50 @@ func Frame(text string, level int) (string, api.Errno) {
 }
 
 // New makes a stream (P8).
-func New(level int) (*Stream, api.Errno) { return nil, api.OK }
+func New(level int) (*Stream, api.Errno) {
+	if !isLevel(level) {
+		return nil, api.ErrNumber
+	}
+	return &Stream{packer: pack.New(level)}, api.OK
+}
 
 // Write writes a text (P8).
-func (s *Stream) Write(text string) api.Errno { return api.OK }
+func (s *Stream) Write(text string) api.Errno {
+	s.lock.Lock()
+	defer s.lock.Unlock()
+	if s.closed {
+		return api.ErrClosed
+	}
+	s.packer.Add(text)
+	return api.OK
+}
 
 // Flush brings out what was written (P8).
-func (s *Stream) Flush(full bool) api.Errno { return api.OK }
+func (s *Stream) Flush(full bool) api.Errno {
+	s.lock.Lock()
+	defer s.lock.Unlock()
+	if s.closed {
+		return api.ErrClosed
+	}
+	s.packer.Flush(full)
+	return api.OK
+}
 
 // Close ends it (P8).
-func (s *Stream) Close() api.Errno { return api.OK }
+func (s *Stream) Close() api.Errno {
+	s.lock.Lock()
+	defer s.lock.Unlock()
+	if s.closed {
+		return api.ErrClosed
+	}
+	s.closed = true
+	s.packer.End()
+	return api.OK
+}
 
 // Take tells the bytes that came (P8).
-func (s *Stream) Take() string { return "" }
+func (s *Stream) Take() string {
+	s.lock.Lock()
+	defer s.lock.Unlock()
+	return s.packer.Take()
+}

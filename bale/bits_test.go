@@ -55,7 +55,11 @@ func symbol(lengths []int, symbol int) string {
 
 // letter is a letter of a fixed block.
 func letter(l int) string {
-	return symbol(slices.Concat(repeat(144, 8), repeat(112, 9), repeat(24, 7), repeat(8, 8)), l)
+	return symbol(fixedLetters(), l)
+}
+
+func fixedLetters() []int {
+	return slices.Concat(repeat(144, 8), repeat(112, 9), repeat(24, 7), repeat(8, 8))
 }
 
 // step is a step of a fixed block.
@@ -108,13 +112,18 @@ func toldLengths(lengths []int) string {
 // codeOfLengths is how a block with its own codes begins, up to the lengths of its so many letters and steps, if they are told by the code with these lengths.
 func codeOfLengths(code []int, letters, steps int) string {
 	row, n := "", 0
-	for i, s := range []int{16, 17, 18, 0, 8, 7, 9, 6, 10, 5, 11, 4, 12, 3, 13, 2, 14, 1, 15} {
+	for i, s := range lengthsOrder() {
 		row += number(code[s], 3)
 		if i < 4 || code[s] > 0 {
 			n = i + 1
 		}
 	}
 	return ownNumbers(letters, steps, n) + row[:3*n]
+}
+
+// lengthsOrder is how the lengths of the code of lengths come.
+func lengthsOrder() []int {
+	return []int{16, 17, 18, 0, 8, 7, 9, 6, 10, 5, 11, 4, 12, 3, 13, 2, 14, 1, 15}
 }
 
 // ownNumbers is the kind and the three numbers of such a block.

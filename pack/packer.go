@@ -29,10 +29,23 @@ func (p *Packer) Add(text string) {
 	p.piece = append(p.piece, text...)
 }
 
-// End writes the last block.
+// Flush writes what was added and is in no block yet, and behind it a block as it is, of no bytes: since that one ends with a byte, all that was added is told by bytes that are filled. With full, what is added from now on is told by what comes behind alone.
+func (p *Packer) Flush(full bool) {
+	if len(p.piece) > 0 {
+		p.block(false)
+	}
+	p.bits.flag(false)
+	asItIs("", p.bits.count).write(&p.bits)
+	if full && p.search != nil {
+		p.search.forget()
+	}
+}
+
+// End writes the last block. Nothing may be added behind it, so what was kept for that is let go.
 func (p *Packer) End() {
 	p.block(true)
 	p.bits.endByte()
+	p.piece, p.search = nil, nil
 }
 
 // Take tells the bytes that were filled since the last Take.

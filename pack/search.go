@@ -28,7 +28,15 @@ type search struct {
 }
 
 func newSearch(level int) *search {
-	return &search{effort: efforts[level-1], table: seen.New[key](format.MostBack)}
+	s := &search{effort: efforts[level-1]}
+	s.forget()
+	return s
+}
+
+// forget begins anew: nothing that was told so far comes again.
+func (s *search) forget() {
+	s.text, s.known = "", 0
+	s.table = seen.New[key](format.MostBack)
 }
 
 // words tells the words of the next piece.
